@@ -1,0 +1,1 @@
+"""Tracked documents as text: the one written form, its readers and its faults."""
