@@ -1,4 +1,4 @@
-"""The form of the package's files: those rules of LANGUAGE.md that can be seen in a syntax tree."""
+"""The form of the package's files: some of the rules of LANGUAGE.md, not all of them."""
 
 import ast
 import builtins
