@@ -58,6 +58,37 @@ def part(i, j):
     return [5, i, j]
 
 
+def tidy():
+    return [6]
+
+
+def settle(w):
+    return [7, w]
+
+
+def plain(w):
+    return [8, w]
+
+
+def pieces():
+    return [9]
+
+
+def table():
+    return [10]
+
+
+def paragraphs():
+    return [11]
+
+
+# The calls that tell of the document held and let it be.
+TELLING = (form(), plain(0), plain(1), plain(2), pieces(), table(), paragraphs())
+
+# What is no way of settle or of plain: also far off, and near a way when cut to fewer bits.
+NO_WAYS = (-1, -2, -3, 3, 4, 10, 11, 32, 10 ** 18, 10 ** 18 - 1, -10 ** 18, 1 - 10 ** 18, 2 ** 32 + 1, 2 ** 32 + 2)
+
+
 def cut_answers(given):
     cut = []
     at = 0
@@ -81,6 +112,29 @@ def one_form(*calls):
     return "".join(chr(number) for number in told[1:])
 
 
+def cut_pieces(answer):
+    """The pieces of an answer of the call pieces: each its sign, look, insertions, deletions, pending looks, tags."""
+    cut = []
+    at = 1
+    for piece in range(answer[0]):
+        sign, look = answer[at], tuple(answer[at + 1:at + 5])
+        at += 5
+        lists = []
+        for width in (1, 1, 3, 1):
+            behind = at + 1 + answer[at] * width
+            told = answer[at + 1:behind]
+            lists.append(told if width == 1 else [tuple(told[k:k + width]) for k in range(0, len(told), width)])
+            at = behind
+        cut.append((sign, look, *[tuple(one) for one in lists]))
+    assert at == len(answer), "the pieces are not as many numbers as they say"
+    return cut
+
+
+def cut_table(answer):
+    assert len(answer) == 1 + 3 * answer[0], "the table is not as long as it says"
+    return [tuple(answer[at:at + 3]) for at in range(1, len(answer), 3)]
+
+
 class DeskTest(unittest.TestCase):
     def assert_told(self, text, written):
         """Readers take the text, and the one form of what it tells is this."""
@@ -95,3 +149,9 @@ class DeskTest(unittest.TestCase):
             text,
         )
         self.assertEqual(one_form(read(text)), NEW)
+
+    def assert_becomes(self, text, call, answer, written):
+        """On the document of the text the call answers this, and the one form is this behind it."""
+        given = run(read(text), call, form())
+        self.assertEqual(given[:2], [[0, 0], answer], text)
+        self.assertEqual("".join(map(chr, given[2][1:])), written, text)

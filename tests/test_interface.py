@@ -2,7 +2,8 @@
 
 import unittest
 
-from tests.helper import EXAMPLE, KINDS, NEW, DeskTest, form, join, numbers, one_form, part, read, run, same, strict
+from tests.helper import (EXAMPLE, KINDS, NEW, TELLING, DeskTest, cut_answers, form, join, numbers, one_form,
+                          paragraphs, part, pieces, plain, read, run, same, settle, strict, table, tidy)
 from trackedtextdesk.written import answers
 
 MOST = 17000
@@ -19,14 +20,24 @@ class InterfaceTest(unittest.TestCase):
         told = [2, 0, 0] + [len(text) + 1, len(text)] + numbers(text) + [1, -1, 1, 1, 1, 0, 1, -1, 2, 1, 7, 2, 0, 0]
         self.assertEqual(given, told)
 
+    def test_answers_of_the_calls_six_to_eleven(self):
+        given = answers([6, 7, 1, 7, 0, 8, 0, 8, 3, 9, 10, 11])
+        told = [1, 0, 1, 0, 1, -2, 2, 1, 10, 1, -2, 10, 1, 10, 0, 0, 0, 0, 0, 0, 0, 0, 1, 0, 2, 1, 1]
+        self.assertEqual(given, told)
+
+    def test_numbers_handed_in_with_a_call_are_no_calls(self):
+        self.assertEqual(answers([7, 7, 8, 8, 7, 6, 8, 11, 5, 9, 10, 10]), [1, -2] * 4 + [1, -1, 1, 0])
+
     def test_answers_are_whole_numbers_in_a_list(self):
-        given = answers(flat(read(EXAMPLE), same(EXAMPLE), same(NEW), same(""), form(), part(0, 1), part(2, 1)))
+        given = answers(flat(read(EXAMPLE), same(EXAMPLE), same(NEW), same(""), form(), part(0, 1), part(2, 1),
+                             *TELLING, tidy(), settle(0), settle(1), plain(9), *TELLING))
         self.assertIs(type(given), list)
         self.assertEqual({type(number) for number in given}, {int})
 
     def test_what_is_handed_in_stays_as_it_was(self):
         joined = KINDS + "[+1|a]\nb\n"
-        calls = flat(read(EXAMPLE), strict(EXAMPLE), form(), join(joined), part(0, 2), same(EXAMPLE), form())
+        calls = flat(read(EXAMPLE), strict(EXAMPLE), form(), join(joined), part(0, 2), same(EXAMPLE), form(), *TELLING,
+                     tidy(), *TELLING, settle(1), join(joined), settle(2), settle(3), plain(-1), *TELLING)
         kept = list(calls)
         first = answers(calls)
         self.assertEqual(calls, kept)
@@ -47,6 +58,16 @@ class InterfaceTest(unittest.TestCase):
     def test_texts_with_numbers_of_calls_in_them(self):
         for number in range(-1, 13):
             self.assertEqual(run(read([number] * 3), form()), [[1, 2 if number == 10 else 1], [16] + numbers(NEW)])
+
+
+    def test_an_answer_of_each_telling_call_is_not_kept(self):
+        for call in TELLING:
+            calls = flat(read(EXAMPLE), call)
+            first = answers(calls)
+            copy = list(first)
+            first[4] = 99
+            first.append(1)
+            self.assertEqual(answers(calls), copy)
 
 
 class EdgeTest(DeskTest):
@@ -162,3 +183,72 @@ class LongListTest(DeskTest):
         self.assertEqual(run(read("tracked 1\ntext\n" + "[" * 16800 + "\n")), [[3, 2]])
         self.assertEqual(run(read("tracked 1\ntext\n" + "\\" * 16801 + "\n")), [[3, 2]])
         self.assertEqual(run(read("tracked 1\ntext\n[" + " " * 16800 + "]\n")), [[3, 3]])
+
+
+class AllCallsTest(DeskTest):
+    """All twelve calls in turn, in lists as long as they may be."""
+
+    def assert_answers(self, calls, expected):
+        flat_calls = flat(*calls)
+        self.assertLessEqual(len(flat_calls), MOST)
+        self.assertLessEqual(len(calls), 400)
+        kept = list(flat_calls)
+        self.assertEqual(cut_answers(answers(flat_calls)), expected)
+        self.assertEqual(flat_calls, kept)
+
+    def test_400_calls_in_turn(self):
+        text = "tracked 1\nchange 1 by 1 at 1 cut\nchange 2 by 2 at 2 paint\ntext\na[-1|b][-1]\n[*2:a1|c]\n"
+        settled = "tracked 1\ntext\na[a1|c]\n"
+        turn = [read(text), join(text), tidy(), plain(1), settle(1), table(), part(1, 2), pieces(), paragraphs(),
+                tidy(), strict(settled + "[]\n"), same(settled), form(), settle(5), plain(5), part(0, 0)]
+        told = [[0, 0], [0, 0], [0], [6] + numbers("ac\nac\n"), [4], [4, 1, 1, 2, 2, 2, 3, 1, 1, 2, 2, 2, 3], [3],
+                [3, 97, 0, 0, 0, 0, 0, 0, 0, 0, 99, 1, 0, 0, 0, 0, 0, 0, 0, 10, 0, 0, 0, 0, 0, 0, 0, 0], [1, 3], [4],
+                [4, 8], [1], [len(settled)] + numbers(settled), [-2], [-2], [-1]]
+        self.assert_answers(turn * 25, told * 25)
+
+    def test_plain_taken_and_refused_in_turn_on_a_long_document(self):
+        text = KINDS + "[+1|a][-2|b]c[*3:a1|d]\n" * 680
+        turn = [plain(0), plain(3), plain(1), plain(-1), plain(2), plain(10 ** 18)]
+        told = []
+        for signs in ("abcd\n", "acd\n", "bcd\n"):
+            told += [[len(signs) * 680] + numbers(signs) * 680, [-2]]
+        self.assert_answers([read(text)] + turn * 66, [[0, 0]] + told * 66)
+
+    def test_list_of_17000_numbers(self):
+        head = "tracked 1\nchange 1 by 1 at 1 cut\ntext\n"
+        calls = [tidy(), settle(1), settle(2), table(), paragraphs()]
+        length = MOST - 2 - len(head) - len("[-1|]a\n") - len(flat(*calls))
+        text = head + "[-1|" + "x" * length + "]a\n"
+        self.assertEqual(len(flat(read(text), *calls)), MOST)
+        self.assert_answers([read(text), *calls], [[0, 0], [0], [length], [0], [1, 1, 1, 2], [1, 2]])
+
+    def test_long_row_of_paragraphs_that_run_together(self):
+        head = "tracked 1\nchange 1 by 1 at 1 move\ntext\n"
+        text = head + "a[+1]\nb[-1]\n" * 1390 + "\n"
+        for w, kept in ((1, "a\nb"), (2, "ab\n")):
+            row = kept * 1390 + "\n"
+            lengths = [len(line) + 1 for line in row.split("\n")[:-1]]
+            self.assert_answers([read(text), settle(w), plain(0), paragraphs(), tidy(), form()],
+                                [[0, 0], [1390], [len(row)] + numbers(row), [len(lengths)] + lengths, [1],
+                                 [15 + len(row)] + numbers("tracked 1\ntext\n" + row)])
+
+    def test_pieces_of_a_long_document_300_times(self):
+        text = "tracked 1\ntext\n" + "[#5|ab]\n" * 900
+        one = [97, 0, 0, 0, 0, 0, 0, 0, 1, 5, 98, 0, 0, 0, 0, 0, 0, 0, 1, 5, 10] + [0] * 8
+        calls = [read(text), tidy()] + [pieces()] * 300
+        self.assert_answers(calls, [[0, 0], [0]] + [[2700] + one * 900] * 300)
+
+    def test_400_calls_on_a_long_document(self):
+        text = KINDS + "[+1|ab][-2|c][*3:b4 #6|d]\n" * 600
+        calls = [read(text)] + [tidy(), settle(7), part(0, 600), table()] * 99 + [settle(2), tidy(), paragraphs()]
+        rows = [3, 1, 5, 1, 2, 6, 2, 3, 7, 3]
+        turn = [[0], [-2], [0], rows]
+        self.assert_answers(calls, [[0, 0], [1], *turn[1:], *turn * 98, [1200], [3], [600] + [3] * 600])
+
+    def test_long_dresses_that_are_alike(self):
+        tags = " ".join(f"#{tag}" for tag in range(1, 1000))
+        head = "tracked 1\nchange 1 by 1 at 1 put\ntext\n"
+        text = head + f"[{tags}|a][+1 {tags}|{'b' * 6500}]\n"
+        kept = f"tracked 1\ntext\n[{tags}|a{'b' * 6500}]\n"
+        calls = [read(text), settle(1), tidy()] + [settle(1), tidy()] * 30 + [form()] * 30
+        self.assert_answers(calls, [[0, 0], [0], [1]] + [[0], [0]] * 30 + [[len(kept)] + numbers(kept)] * 30)

@@ -141,6 +141,14 @@ class LanguageTest(unittest.TestCase):
                 if isinstance(node, ast.Name):
                     self.assertIn(node.id, known, (name, node.lineno))
 
+    def test_locals_are_not_called_like_a_class_or_an_import(self):
+        for name, tree in self.trees():
+            taken = {one.name for node in tree.body if isinstance(node, ast.ImportFrom) for one in node.names}
+            taken |= {node.name for node in tree.body if isinstance(node, ast.ClassDef)}
+            for node in ast.walk(tree):
+                if isinstance(node, ast.FunctionDef):
+                    self.assertEqual((set(bound_names(node)) - {node.name}) & taken, set(), (name, node.name))
+
     def test_methods_and_values(self):
         methods = set()
         values = set()

@@ -1,7 +1,10 @@
 """The desk: the object that calls work on, with a document that it holds."""
 
-from trackedtextdesk.document import DRESS, Document, is_put_or_cut, joined, new_document, paragraph_ends
+from trackedtextdesk.document import DRESS, SIGN, Document, is_put_or_cut, new_document, paragraph_ends
+from trackedtextdesk.listing import counted, listed_paragraphs, listed_pieces, listed_table
+from trackedtextdesk.numbering import joined, tidied
 from trackedtextdesk.reader import FINE, read_text
+from trackedtextdesk.views import BEFORE, SHOWN, WHOLE, settled, viewed_row
 from trackedtextdesk.writer import first_line_apart, one_form
 
 NOT_THE_ONE_FORM = 8
@@ -30,8 +33,7 @@ class Desk:
         return [reading.line, reading.reason]
 
     def form(self):
-        form = one_form(self.document)
-        return [len(form)] + form
+        return counted(one_form(self.document))
 
     def same(self, text):
         reading = read_text(text)
@@ -59,3 +61,29 @@ class Desk:
         kept = row[start:last + 1]
         self.document = Document(self.document.table, kept)
         return [len(row) - len(kept)]
+
+    def tidy(self):
+        before = len(self.document.table)
+        self.document = tidied(self.document)
+        return [before - len(self.document.table)]
+
+    def settle(self, view):
+        if view not in (SHOWN, BEFORE):
+            return [-2]
+        before = len(self.document.row)
+        self.document = settled(self.document, view)
+        return [before - len(self.document.row)]
+
+    def plain(self, view):
+        if view not in (WHOLE, SHOWN, BEFORE):
+            return [-2]
+        return counted([piece[SIGN] for piece in viewed_row(self.document.row, view)])
+
+    def pieces(self):
+        return listed_pieces(self.document.row)
+
+    def changes(self):
+        return listed_table(self.document.table)
+
+    def paragraphs(self):
+        return listed_paragraphs(self.document.row)

@@ -1,7 +1,7 @@
 """Documents: a table of changes and a row of pieces.
 
-A change is a tuple of author, time and kind; its time is kept as the numbers of its numeral,
-since it may have more digits than Python turns into a number and back.
+A change is a tuple of author, time, kind and the time's numeral. The numeral is kept beside the
+time, since a time may have more digits than Python writes.
 A piece is a tuple of a sign and a dress; a dress is a tuple of a look, insertions, deletions,
 pending looks (each a tuple of change, property and value) and tags, all of them tuples.
 A document is never altered once it is made, so documents may share what they hold.
@@ -12,6 +12,7 @@ from trackedtextdesk.signs import LINE_END
 AUTHOR = 0
 TIME = 1
 KIND = 2
+NUMERAL = 3
 
 PUT = 1
 CUT = 2
@@ -53,28 +54,3 @@ def is_put_or_cut(dress):
 def paragraph_ends(row):
     """The place of each paragraph's end in the row."""
     return [at for at, piece in enumerate(row) if piece[SIGN] == LINE_END]
-
-
-def joined(first, second):
-    """The document with the second one behind the first one."""
-    return Document(first.table + second.table, first.row + raised_row(second.row, len(first.table)))
-
-
-def raised_row(row, by):
-    raised = []
-    worn = None
-    dress = None
-    for piece in row:
-        # Neighbours from one pair of brackets share a dress, and should share the raised one too.
-        if piece[DRESS] != worn:
-            worn = piece[DRESS]
-            dress = raised_dress(worn, by)
-        raised.append((piece[SIGN], dress))
-    return raised
-
-
-def raised_dress(dress, by):
-    insertions = tuple([change + by for change in dress[INSERTIONS]])
-    deletions = tuple([change + by for change in dress[DELETIONS]])
-    pending = tuple([(entry[0] + by, entry[1], entry[2]) for entry in dress[PENDING]])
-    return (dress[LOOK], insertions, deletions, pending, dress[TAGS])

@@ -94,7 +94,7 @@ def read_change(table, parts):
     author = value_of(parts[3])
     if number != len(table) + 1 or not 1 <= author <= GREATEST_AUTHOR:
         return OUT_OF_RANGE
-    table.append((author, tuple(parts[5]), kind_of(parts[6])))
+    table.append((author, value_of(parts[5]), kind_of(parts[6]), tuple(parts[5])))
     return FINE
 
 

@@ -21,8 +21,8 @@ PROPERTIES = "abcd"
 FIRST_PROPERTY = 97
 LAST_PROPERTY = 100
 
-MOST_DIGITS = 18
-BEYOND = 1000000000000000000
+STRIDE = 18
+STRIDE_RANGE = 1000000000000000000
 
 
 def numbers_of(words):
@@ -36,12 +36,20 @@ def is_numeral(numbers):
 
 
 def value_of(numeral):
-    """What a numeral says; BEYOND for all with more digits than any range has room for."""
-    # A numeral may be as long as its text: only a time may be so great, and a time stays a numeral.
-    if len(numeral) > MOST_DIGITS:
-        return BEYOND
+    """What a numeral says, however long it is."""
+    # Many digits at a stride: a numeral may be as long as its text, and digit by digit that is slow.
+    start = len(numeral) % STRIDE
+    value = value_of_digits(numeral[:start])
+    while start < len(numeral):
+        behind = start + STRIDE
+        value = value * STRIDE_RANGE + value_of_digits(numeral[start:behind])
+        start = behind
+    return value
+
+
+def value_of_digits(digits):
     value = 0
-    for digit in numeral:
+    for digit in digits:
         value = value * 10 + digit - FIRST_DIGIT
     return value
 

@@ -1,6 +1,6 @@
 """The writer: the one form of a document."""
 
-from trackedtextdesk.document import AUTHOR, KIND, KIND_WORDS, TIME, plain_dress
+from trackedtextdesk.document import AUTHOR, KIND, KIND_WORDS, NUMERAL, plain_dress
 from trackedtextdesk.marks import written_marks
 from trackedtextdesk.signs import BACKSLASH, BAR, LEFT, LINE_END, RIGHT, numbers_of
 
@@ -17,7 +17,7 @@ def one_form(document):
 def change_line(number, change):
     author = change[AUTHOR]
     word = KIND_WORDS[change[KIND] - 1]
-    return numbers_of(f"change {number} by {author} at ") + list(change[TIME]) + numbers_of(f" {word}\n")
+    return numbers_of(f"change {number} by {author} at ") + list(change[NUMERAL]) + numbers_of(f" {word}\n")
 
 
 def row_lines(row):
@@ -32,7 +32,7 @@ def row_lines(row):
                 lines.append(RIGHT)
             if dress != plain:
                 lines.extend([LEFT] + numbers_of(written_marks(dress)) + [RIGHT if is_end else BAR])
-            worn = plain if is_end else dress
+        worn = plain if is_end else dress
         if sign in (LEFT, RIGHT, BACKSLASH):
             lines.append(BACKSLASH)
         lines.append(sign)

@@ -8,6 +8,12 @@ FORM = 2
 SAME = 3
 JOIN = 4
 PART = 5
+TIDY = 6
+SETTLE = 7
+PLAIN = 8
+PIECES = 9
+TABLE = 10
+PARAGRAPHS = 11
 
 
 class UnknownCall(ValueError):
@@ -43,6 +49,8 @@ def behind_call(calls, at):
         return at + 2 + calls[at + 1]
     if calls[at] == PART:
         return at + 3
+    if calls[at] in (SETTLE, PLAIN):
+        return at + 2
     return at + 1
 
 
@@ -59,4 +67,16 @@ def answer_of(desk, call, numbers):
         return desk.join(numbers)
     if call == PART:
         return desk.part(numbers[0], numbers[1])
+    if call == TIDY:
+        return desk.tidy()
+    if call == SETTLE:
+        return desk.settle(numbers[0])
+    if call == PLAIN:
+        return desk.plain(numbers[0])
+    if call == PIECES:
+        return desk.pieces()
+    if call == TABLE:
+        return desk.changes()
+    if call == PARAGRAPHS:
+        return desk.paragraphs()
     raise UnknownCall(f"no call has the number {call}")
